@@ -6,9 +6,18 @@ import (
 	"rotor/number"
 )
 
+// Sign is what every file begins with.
+const Sign = "RTX1"
+
+const headBytes = len(Sign) + 2 + 1 + 1 + 4
+
+// The sections, in their order.
 const (
-	sign      = "RTX1"
-	headBytes = len(sign) + 2 + 1 + 1 + 4
+	Last = iota
+	Tree
+	First
+	Marks
+	Places
 )
 
 // IsText tells whether it may be a text.
@@ -41,7 +50,7 @@ func File(text string, rate int) string {
 }
 
 func headOf(length int, rate int, size int) []byte {
-	out := []byte(sign)
+	out := []byte(Sign)
 	out = number.Append(out, uint16(length))
 	out = number.Append(out, uint8(rate))
 	out = number.Append(out, uint8(api.Sections))

@@ -12,11 +12,11 @@ import (
 func sectionsOf(text string, rate int) [api.Sections][]byte {
 	rows := rowsOf(text)
 	return [api.Sections][]byte{
-		lastSection(rows),
-		treeSection(columnOf(text, rows)),
-		firstSection(text),
-		marksSection(rows, rate),
-		placesSection(rows, rate),
+		Last:   lastSection(rows),
+		Tree:   treeSection(columnOf(text, rows)),
+		First:  firstSection(text),
+		Marks:  marksSection(rows, rate),
+		Places: placesSection(rows, rate),
 	}
 }
 
@@ -75,7 +75,7 @@ func firstSection(text string) []byte {
 func marksSection(rows []int, rate int) []byte {
 	var marks bitrow.Bits[uint16]
 	for _, at := range rows {
-		marks.Add(isMarked(at, rate))
+		marks.Add(IsMarked(at, rate))
 	}
 	return marks.AppendTo(nil)
 }
@@ -83,13 +83,14 @@ func marksSection(rows []int, rate int) []byte {
 func placesSection(rows []int, rate int) []byte {
 	var out []byte
 	for _, at := range rows {
-		if isMarked(at, rate) {
+		if IsMarked(at, rate) {
 			out = number.Append(out, uint16(at))
 		}
 	}
 	return out
 }
 
-func isMarked(at int, rate int) bool {
+// IsMarked tells whether the row at a place is marked.
+func IsMarked(at int, rate int) bool {
 	return at%rate == 0
 }

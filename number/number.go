@@ -32,6 +32,15 @@ func AppendAll[N Unsigned](out []byte, values []N) []byte {
 	return out
 }
 
+// Read tells the number that the bytes begin with: they are no fewer than its width.
+func Read[N Unsigned](data []byte) N {
+	value := uint64(0)
+	for k := range Width[N]() {
+		value |= uint64(data[k]) << (8 * k)
+	}
+	return N(value)
+}
+
 // CheckSum tells the check sum of bytes.
 func CheckSum(data []byte) uint32 {
 	sum := uint32(0)

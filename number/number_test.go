@@ -39,6 +39,43 @@ func TestAppendOfBounds(t *testing.T) {
 	}
 }
 
+func TestReadTakesLowBytesFirst(t *testing.T) {
+	data := []byte{0xfe, 0x34, 0x12, 0xef, 0xcd}
+	if n := number.Read[uint8](data); n != 0xfe {
+		t.Errorf("of one byte: %#x", n)
+	}
+	if n := number.Read[uint16](data); n != 0x34fe {
+		t.Errorf("of two bytes: %#x", n)
+	}
+	if n := number.Read[uint32](data); n != 0xef1234fe {
+		t.Errorf("of four bytes: %#x", n)
+	}
+}
+
+func TestReadOfBounds(t *testing.T) {
+	all := []byte{255, 255, 255, 255}
+	if a, b, c := number.Read[uint8](all), number.Read[uint16](all), number.Read[uint32](all); a != 255 || b != 65535 || c != 1<<32-1 {
+		t.Errorf("the greatest numbers are %d, %d, %d", a, b, c)
+	}
+	none := []byte{0, 0, 0, 0}
+	if a, b, c := number.Read[uint8](none), number.Read[uint16](none), number.Read[uint32](none); a != 0 || b != 0 || c != 0 {
+		t.Errorf("the least numbers are %d, %d, %d", a, b, c)
+	}
+}
+
+func TestReadOfWhatIsLaid(t *testing.T) {
+	r := rand.New(rand.NewSource(4))
+	for range 1000 {
+		n := r.Uint32()
+		if got := number.Read[uint32](number.Append(nil, n)); got != n {
+			t.Fatalf("%d is read as %d", n, got)
+		}
+		if got := number.Read[uint16](number.Append(nil, uint16(n))); got != uint16(n) {
+			t.Fatalf("%d is read as %d", uint16(n), got)
+		}
+	}
+}
+
 func TestCheckSumOfExamples(t *testing.T) {
 	for data, want := range map[string]uint32{
 		"":         0,

@@ -4,10 +4,15 @@ package rotor
 import (
 	"rotor/api"
 	"rotor/layout"
+	"rotor/loading"
+	"rotor/parts"
+	"rotor/rows"
 )
 
 // Index answers about a text.
-type Index struct{}
+type Index struct {
+	rows *rows.Rows
+}
 
 // Build makes the file of a text (P3).
 func Build(text string, rate int) (string, api.Errno) {
@@ -18,16 +23,49 @@ func Build(text string, rate int) (string, api.Errno) {
 }
 
 // Load reads a file (P4).
-func Load(s *api.Source) (*Index, api.Errno) { return nil, api.OK }
+func Load(s *api.Source) (x *Index, e api.Errno) {
+	if s == nil {
+		return nil, api.ErrArg
+	}
+	if s.Size() > api.MaxFile {
+		return nil, api.ErrLarge
+	}
+	defer func() {
+		if recovered := recover(); recovered != nil {
+			x, e = nil, parts.Why(recovered)
+		}
+	}()
+	return &Index{rows: loading.Rows(loading.Bytes(s))}, api.OK
+}
 
 // Len tells how long the text is (P6).
-func (x *Index) Len() int { return 0 }
+func (x *Index) Len() int {
+	if x.isNone() {
+		return 0
+	}
+	return x.rows.Length
+}
 
 // Rate tells the rate (P6).
-func (x *Index) Rate() int { return 0 }
+func (x *Index) Rate() int {
+	if x.isNone() {
+		return 0
+	}
+	return x.rows.Rate
+}
 
 // Extract tells a piece of the text (P6).
-func (x *Index) Extract(from int, to int) (string, api.Errno) { return "", api.OK }
+func (x *Index) Extract(from int, to int) (string, api.Errno) {
+	if x.isNone() || from < 0 || to < from || to > x.rows.Length {
+		return "", api.ErrArg
+	}
+	return x.rows.Piece(from, to), api.OK
+}
+
+// isNone tells whether there is no text: with an error Load gives nil, and to ask that must not panic (P1).
+func (x *Index) isNone() bool {
+	return x == nil || x.rows == nil
+}
 
 // Count tells how often something stands in the text (P7).
 func (x *Index) Count(p string) int { return 0 }
