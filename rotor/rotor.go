@@ -62,13 +62,23 @@ func (x *Index) Extract(from int, to int) (string, api.Errno) {
 	return x.rows.Piece(from, to), api.OK
 }
 
+// Count tells how often something stands in the text (P7).
+func (x *Index) Count(p string) int {
+	if x.isNone() {
+		return 0
+	}
+	return x.rows.Count(p)
+}
+
+// Locate tells where it stands (P8).
+func (x *Index) Locate(p string, most int) ([]int, api.Errno) {
+	if x.isNone() || most < 0 {
+		return nil, api.ErrArg
+	}
+	return x.rows.Locate(p, most), api.OK
+}
+
 // isNone tells whether there is no text: with an error Load gives nil, and to ask that must not panic (P1).
 func (x *Index) isNone() bool {
 	return x == nil || x.rows == nil
 }
-
-// Count tells how often something stands in the text (P7).
-func (x *Index) Count(p string) int { return 0 }
-
-// Locate tells where it stands (P8).
-func (x *Index) Locate(p string, most int) ([]int, api.Errno) { return nil, api.OK }

@@ -3,6 +3,7 @@ package rotor_test
 import (
 	"math"
 	"math/rand"
+	"slices"
 	"strings"
 	"sync"
 	"testing"
@@ -216,6 +217,8 @@ func TestIndexKeepsNoBytesOfItsSource(t *testing.T) {
 		x := mustLoad(t, unsafe.String(&memory[0], len(memory)))
 		clear(memory)
 		mustTell(t, x, text, rate)
+		mustFind(t, x, text, "")
+		mustFind(t, x, text, text[20:22])
 	}
 }
 
@@ -234,6 +237,13 @@ func TestIndexSideBySide(t *testing.T) {
 				if s, e := indexes[i].Extract(0, len(text)); s != text || e != api.OK {
 					t.Errorf("P2: of %q, asked by several at once: %q, error %d", text, s, e)
 				}
+				all := standing(text, "")
+				if n := indexes[i].Count(""); n != len(all) {
+					t.Errorf("P2: of %q, asked by several at once: %d places, want %d", text, n, len(all))
+				}
+				if list, e := indexes[i].Locate("", math.MaxInt); !slices.Equal(list, all) || e != api.OK {
+					t.Errorf("P2: of %q, asked by several at once: all places are %v, error %d", text, list, e)
+				}
 			}
 		}()
 	}
@@ -249,6 +259,12 @@ func TestNoIndexNoPanic(t *testing.T) {
 		}
 		if s, e := none.Extract(0, 0); s != "" || e != api.ErrArg {
 			t.Errorf("P1: of no text: Extract(0, 0) = %q, error %d", s, e)
+		}
+		if n := none.Count(""); n != 0 {
+			t.Errorf("P1: of no text: Count(\"\") = %d", n)
+		}
+		if list, e := none.Locate("", 1); len(list) != 0 || e != api.ErrArg {
+			t.Errorf("P1: of no text: Locate(\"\", 1) = %v, error %d", list, e)
 		}
 	}
 }

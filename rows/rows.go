@@ -14,14 +14,18 @@ type Rows struct {
 	Places []uint16
 }
 
+// inColumn tells where the byte of a row stands in the column: how many of the rows ahead of it have a byte.
+func (x *Rows) inColumn(row int) int {
+	// The last row has none.
+	if row > x.Last {
+		return row - 1
+	}
+	return row
+}
+
 // Back tells the byte of a row that is not the last row, and the row that is at the byte's place.
 func (x *Rows) Back(row int) (c byte, back int) {
-	place := row
-	// The last row has no byte in the column.
-	if row > x.Last {
-		place--
-	}
-	c, equal := x.Tree.At(place)
+	c, equal := x.Tree.At(x.inColumn(row))
 	// Rows whose ends begin with one byte stand in the order of what follows it.
 	return c, int(x.First[c]) + equal
 }

@@ -2,6 +2,7 @@ package rows
 
 import (
 	"math/rand"
+	"slices"
 	"strings"
 	"testing"
 )
@@ -91,6 +92,33 @@ func TestPieceOfExample(t *testing.T) {
 			if piece := x.Piece(from, to); piece != "aba"[from:to] {
 				t.Errorf("from %d to %d is %q", from, to, piece)
 			}
+		}
+	}
+}
+
+func TestSearchOfExample(t *testing.T) {
+	x := exampleRows()
+	for p, want := range map[string][]int{
+		"": {0, 1, 2, 3}, "a": {0, 2}, "b": {1}, "ab": {0}, "ba": {1}, "aba": {0},
+		"c": {}, "aa": {}, "bab": {}, "abab": {}, "aaba": {}, "\x00": {}, "\xff": {},
+	} {
+		if n := x.Count(p); n != len(want) {
+			t.Errorf("%q stands at %d places, want %d", p, n, len(want))
+		}
+		for most := range 6 {
+			if places := x.Locate(p, most); !slices.Equal(places, want[:min(most, len(want))]) {
+				t.Errorf("the first %d places of %q are %v, want those of %v", most, p, places, want)
+			}
+		}
+	}
+}
+
+// TestWhereRowsAre goes through marked rows and rows that are known by the way back alone.
+func TestWhereRowsAre(t *testing.T) {
+	x := exampleRows()
+	for row, want := range []int{3, 2, 0, 1} {
+		if at := x.at(row); at != want {
+			t.Errorf("row %d is at %d, want %d", row, at, want)
 		}
 	}
 }
